@@ -1,0 +1,1 @@
+"""Tables kept by columns, pressed, put together late, asked as of a moment."""

@@ -1,0 +1,23 @@
+"""What the other files need of cells: their signs, their bounds, their kinds, their order."""
+
+# Written out, as a sign's number is its place here: the sign between $ and & is left out.
+SIGNS = (
+    " !\"#$&'()*+,-./0123456789:;<=>?@"
+    "ABCDEFGHIJKLMNOPQRSTUVWXYZ[\\]^_`"
+    "abcdefghijklmnopqrstuvwxyz{|}~"
+)
+MOST_SIGNS = 20
+NUMBER_BOUND = 10 ** 18
+
+
+def kind_of(cell):
+    """The kind, "number" or "text", None of an open cell."""
+    if cell is None:
+        return None
+    return "text" if isinstance(cell, str) else "number"
+
+
+def unlike_cells(cells):
+    """The cells, each once, rising; they are open or of one kind."""
+    known = sorted({cell for cell in cells if cell is not None})
+    return [None] + known if None in cells else known
