@@ -4,13 +4,9 @@ import copy
 import unittest
 
 from pillarstore.celltests import looked, meets, note_of
+from tests.support import MET
 
 SIGNS = ["=", "<>", "<", "<=", ">", ">="]
-# Per sign: whether a cell below, at and beyond the value meets it.
-MET = {
-    "=": (False, True, False), "<>": (True, False, True), "<": (True, False, False),
-    "<=": (True, True, False), ">": (False, False, True), ">=": (False, True, True),
-}
 THREES = [
     (4, 5, 6), (-6, -5, -4), (-1, 0, 1), (10 ** 18 - 3, 10 ** 18 - 2, 10 ** 18 - 1),
     ("a", "b", "c"), ("", " ", "!"), ("Z", "a", "aa"), ("10", "9", "~"),
@@ -130,6 +126,15 @@ class LookedTest(unittest.TestCase):
             self.check((5, 2, 10, 10), ("among", kind([9])), "none")
             self.check((5, 0, "a", "a"), ("among", kind(["a"])), "all")
             self.check((5, 0, "a", "c"), ("among", kind(["b"])), "some")
+
+    def test_texts_that_are_words_of_tests(self):
+        for text in ("open", "among", "=", "<>"):
+            self.check((2, 0, text, text), ("=", text), "all")
+            self.check((2, 0, "", "~"), ("=", text), "some")
+            self.check((2, 1, text, text), ("<>", text), "none")
+            self.check((2, 0, text, text), ("among", [text]), "all")
+            self.assertIs(meets(text, ("=", text)), True)
+            self.assertIs(meets(None, ("=", text)), False)
 
     def test_none_and_all_hold_of_the_cells(self):
         stretches = [[5], [None], [5, 5], [5, None], [3, 7], [7, 3, None], [4, 5, 6], [-1, 10], [6, None, 6]]
