@@ -1,4 +1,4 @@
-"""The rules of LANGUAGE.md that can be seen in the package's files, and [2]: no clock, chance or files."""
+"""Some rules of LANGUAGE.md, those that are easy to see in the files, and [2]: no clock, chance or files."""
 
 import ast
 import builtins
