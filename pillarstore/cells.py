@@ -17,6 +17,14 @@ def kind_of(cell):
     return "text" if isinstance(cell, str) else "number"
 
 
+def within_bounds(cell):
+    """Whether a number has no more figures, or a text no more signs, than a cell may have."""
+    kind = kind_of(cell)
+    if kind == "number":
+        return abs(cell) < NUMBER_BOUND
+    return kind is None or len(cell) <= MOST_SIGNS
+
+
 def unlike_cells(cells):
     """The cells, each once, rising; they are open or of one kind."""
     known = sorted({cell for cell in cells if cell is not None})

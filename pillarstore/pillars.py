@@ -1,5 +1,6 @@
 """A column's cells, kept as pressed stretches with their notes."""
 
+from pillarstore.cells import within_bounds
 from pillarstore.celltests import note_of
 from pillarstore.errors import NoRow
 from pillarstore.pressing import pressed
@@ -10,11 +11,13 @@ class Pillar:
     """A column's cells by stretches of long cells, the last one maybe shorter."""
 
     def __init__(self, long, cells):
-        pieces = [cells[at:at + long] for at in range(0, len(cells), long)]
-        self.span = long
+        # No stretch is of no cells: a long below 1, which callers need not stay away from, is as 1.
+        self.span = max(1, long)
         self.total = len(cells)
+        pieces = [list(cells[at:at + self.span]) for at in range(0, self.total, self.span)]
         self.pressed_rows = [pressed(piece) for piece in pieces]
         self.known_notes = [note_of(piece) for piece in pieces]
+        self.plain_pieces = {s: piece for s, piece in enumerate(pieces) if not can_be_read_back(piece)}
 
     def many(self):
         """How many cells there are."""
@@ -32,6 +35,8 @@ class Pillar:
         """The cells of a stretch."""
         if not 0 <= s < len(self.pressed_rows):
             raise NoRow(f"no stretch {s}")
+        if s in self.plain_pieces:
+            return list(self.plain_pieces[s])
         return cells_in(self.pressed_rows[s])
 
     def cell(self, k):
@@ -39,4 +44,11 @@ class Pillar:
         if not 0 <= k < self.total:
             raise NoRow(f"no cell {k}")
         s, place = divmod(k, self.span)
+        if s in self.plain_pieces:
+            return self.plain_pieces[s][place]
         return cell_in(self.pressed_rows[s], place)
+
+
+def can_be_read_back(cells):
+    """Whether the readers of pressed rows take the row of these cells: they refuse what is beyond the bounds."""
+    return all([within_bounds(cell) for cell in cells])

@@ -62,8 +62,8 @@ FIRST_WAY_OF_NUMBERS = 3
 
 
 def press_by(way, cells):
-    """The row of a stretch by a way, None where that way is for numbers and a cell is none."""
-    if way >= FIRST_WAY_OF_NUMBERS and not has_numbers_alone(cells):
+    """The row of a stretch by a way, None where that way is for numbers and a cell is none, or where it is no way."""
+    if not 0 <= way < len(PRESSERS) or way >= FIRST_WAY_OF_NUMBERS and not has_numbers_alone(cells):
         return None
     presser = PRESSERS[way]
     return [way] + number_bytes(len(cells)) + presser(cells)

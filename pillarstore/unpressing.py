@@ -5,7 +5,7 @@ cell of the stretch which of these it is. So what is asked of a value is asked j
 """
 
 from pillarstore.byterows import bits_for, take_byte, take_cell, take_number, take_packed
-from pillarstore.cells import NUMBER_BOUND, kind_of
+from pillarstore.cells import kind_of, within_bounds
 from pillarstore.celltests import meets
 from pillarstore.errors import BadBytes, NoRow
 from pillarstore.pressing import press_by
@@ -110,8 +110,7 @@ def unpressed(row):
 def can_be_one_stretch(values):
     """Whether no two are of unlike kinds and no number has too many figures."""
     kinds = {kind_of(value) for value in values if value is not None}
-    numbers = [value for value in values if kind_of(value) == "number"]
-    return len(kinds) <= 1 and all([abs(number) < NUMBER_BOUND for number in numbers])
+    return len(kinds) <= 1 and all([within_bounds(value) for value in values])
 
 
 def values_and_places(row):

@@ -2,7 +2,7 @@
 
 import unittest
 
-from pillarstore.cells import SIGNS, kind_of, unlike_cells
+from pillarstore.cells import SIGNS, kind_of, unlike_cells, within_bounds
 
 
 class CellsTest(unittest.TestCase):
@@ -15,6 +15,12 @@ class CellsTest(unittest.TestCase):
             self.assertEqual(kind_of(number), "number")
         for text in ("", "number", " "):
             self.assertEqual(kind_of(text), "text")
+
+    def test_bounds(self):
+        for cell in (None, 0, 10 ** 18 - 1, 1 - 10 ** 18, "", "x" * 20):
+            self.assertTrue(within_bounds(cell), cell)
+        for beyond in (10 ** 18, -(10 ** 18), 10 ** 40, "x" * 21, "x" * 99):
+            self.assertFalse(within_bounds(beyond), beyond)
 
     def test_order_open_ones_first_then_rising(self):
         self.assertEqual(unlike_cells([3, None, -4, 3, 10, None]), [None, -4, 3, 10])

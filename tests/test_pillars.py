@@ -68,11 +68,50 @@ class PillarTest(unittest.TestCase):
         self.assertEqual(one.rows(), other.rows())
         self.assertEqual(other.stretch(0), [4, None, 4])
 
-    def test_a_long_somewhat_beyond_is_no_error(self):
-        for cells in COLUMNS.values():
-            pillar = Pillar(100, cells)
-            self.assertEqual(pillar.stretch(0), cells[:100])
-            self.assertEqual(pillar.cell(99), cells[99])
+
+
+class BeyondTest(unittest.TestCase):
+    """Cells and longs somewhat beyond the bounds are no error, and are told as they were handed in."""
+
+    BEYOND = (
+        ["x" * 21, "y", "x" * 21], ["x" * 25, None, "ab", "x" * 25], ["y"] * 4 + ["x" * 400], ["x" * 21] * 9,
+        [10 ** 18, 5, -(10 ** 18)], [10 ** 30, 5], [5, 10 ** 30], [None, -(10 ** 30), 4, None], [10 ** 100, 0, 3],
+        [10 ** 18 + k for k in range(9)], [10 ** 40] * 9, [k * 10 ** 25 for k in range(-4, 5)],
+    )
+
+    def assert_told(self, long, span, cells):
+        pillar = Pillar(long, cells)
+        stretches = [cells[at:at + span] for at in range(0, len(cells), span)]
+        self.assertEqual(pillar.many(), len(cells))
+        self.assertEqual(pillar.rows(), [pressed(stretch) for stretch in stretches])
+        self.assertEqual(pillar.notes(), [note_of(stretch) for stretch in stretches])
+        self.assertEqual([pillar.stretch(s) for s in range(len(stretches))], stretches)
+        self.assertEqual([pillar.cell(k) for k in range(len(cells))], cells)
+
+    def test_cells(self):
+        for cells in self.BEYOND:
+            for long in (1, 2, 3, 64):
+                self.assert_told(long, long, cells)
+
+    def test_no_row(self):
+        for cells in self.BEYOND:
+            pillar = Pillar(2, cells)
+            for ask, k in ((pillar.stretch, -1), (pillar.stretch, 9), (pillar.cell, -1), (pillar.cell, len(cells))):
+                with self.assertRaises(NoRow):
+                    ask(k)
+
+    def test_longs(self):
+        for cells in list(COLUMNS.values()) + [self.BEYOND[1]]:
+            for long, span in ((65, 65), (66, 66), (100, 100), (1000, 1000), (0, 1), (-1, 1)):
+                self.assert_told(long, span, cells)
+
+    def test_such_cells_are_not_kept_and_not_given_away(self):
+        cells = ["x" * 21, None]
+        pillar = Pillar(2, cells)
+        cells.clear()
+        pillar.stretch(0).clear()
+        self.assertEqual(pillar.stretch(0), ["x" * 21, None])
+        self.assertEqual(pillar.cell(0), "x" * 21)
 
 
 class OwnTest(unittest.TestCase):

@@ -106,6 +106,8 @@ class PressByTest(unittest.TestCase):
             for way in range(5):
                 self.assertEqual(press_by(way, cells), pressed_by_hand(way, cells))
         self.assertEqual(pressed([]), [0, 0])
+        for way in (-1, 5, 6):
+            self.assertIsNone(press_by(way, [5, 6]))
 
 
 class PressedTest(unittest.TestCase):
