@@ -25,6 +25,23 @@ def within_bounds(cell):
     return kind is None or len(cell) <= MOST_SIGNS
 
 
+def is_whole(thing):
+    """Whether a thing of any kind is a whole number; True and False are none."""
+    return isinstance(thing, int) and not isinstance(thing, bool)
+
+
+def is_cell(thing):
+    """Whether a thing of any kind is a cell."""
+    if isinstance(thing, str):
+        return within_bounds(thing) and all([sign in SIGNS for sign in thing])
+    return thing is None or is_whole(thing) and within_bounds(thing)
+
+
+def fits(thing, kind):
+    """Whether a thing of any kind is a cell of a column of a kind."""
+    return is_cell(thing) and kind_of(thing) in (None, kind)
+
+
 def unlike_cells(cells):
     """The cells, each once, rising; they are open or of one kind."""
     known = sorted({cell for cell in cells if cell is not None})

@@ -40,3 +40,21 @@ def named_places(test):
     for inner in test[1:]:
         places.extend(named_places(inner))
     return places
+
+
+def moved(test, by):
+    """The test with its places so much greater; nothing in it is a list that was handed in."""
+    word = test[0]
+    if word == "cell":
+        return word, test[1] + by, own_cell_test(test[2])
+    if word == "cells":
+        return word, test[1] + by, test[2], test[3] + by
+    inner = [moved(part, by) for part in test[1:]]
+    return (word, *inner)
+
+
+def own_cell_test(test):
+    """A cell test with values of its own."""
+    if test[0] == "among":
+        return "among", tuple(test[1])
+    return test

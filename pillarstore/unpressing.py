@@ -14,10 +14,10 @@ MOST_CELLS = 64
 MOST_WIDE = 62
 
 
-def take_count(row, at, most):
-    """A number from 1 to most that begins at a place, and the place behind it."""
+def take_count(row, at, most=None):
+    """A number from 1 on, to most where that is told, that begins at a place, and the place behind it."""
     many, behind = take_number(row, at)
-    if not 1 <= many <= most:
+    if many < 1 or most is not None and many > most:
         raise BadBytes("count")
     return many, behind
 

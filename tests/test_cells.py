@@ -2,7 +2,7 @@
 
 import unittest
 
-from pillarstore.cells import SIGNS, kind_of, unlike_cells, within_bounds
+from pillarstore.cells import SIGNS, fits, is_cell, is_whole, kind_of, unlike_cells, within_bounds
 
 
 class CellsTest(unittest.TestCase):
@@ -21,6 +21,24 @@ class CellsTest(unittest.TestCase):
             self.assertTrue(within_bounds(cell), cell)
         for beyond in (10 ** 18, -(10 ** 18), 10 ** 40, "x" * 21, "x" * 99):
             self.assertFalse(within_bounds(beyond), beyond)
+
+    def test_what_is_a_cell(self):
+        for cell in (None, 0, -5, 10 ** 18 - 1, 1 - 10 ** 18, "", " ", "x" * 20, "~$&'"):
+            self.assertTrue(is_cell(cell), cell)
+        unknown_signs = ("a%", "\n", "\x1f", "\x7f", "\xe9")
+        for thing in (*unknown_signs, 10 ** 18, -(10 ** 18), True, False, "x" * 21, 1.0, (1,), [], {}, b"a"):
+            self.assertFalse(is_cell(thing), thing)
+            self.assertFalse(fits(thing, "number"), thing)
+            self.assertFalse(fits(thing, "text"), thing)
+
+    def test_what_fits_a_kind(self):
+        for kind, cells, others in (("number", (0, 10 ** 18 - 1), ("", "5")), ("text", ("", "5"), (0, -7))):
+            self.assertEqual([fits(cell, kind) for cell in (None, *cells)], [True] * 3)
+            self.assertEqual([fits(cell, kind) for cell in others], [False] * 2)
+
+    def test_whole_numbers(self):
+        self.assertEqual([is_whole(thing) for thing in (0, -1, 10 ** 40)], [True] * 3)
+        self.assertEqual([is_whole(thing) for thing in (True, False, None, "1", 1.0, (1,))], [False] * 6)
 
     def test_order_open_ones_first_then_rising(self):
         self.assertEqual(unlike_cells([3, None, -4, 3, 10, None]), [None, -4, 3, 10])

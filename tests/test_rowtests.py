@@ -3,7 +3,7 @@
 import copy
 import unittest
 
-from pillarstore.rowtests import places_in, row_meets
+from pillarstore.rowtests import moved, places_in, row_meets
 from tests.support import MET
 
 ALWAYS = ("always",)
@@ -118,6 +118,26 @@ class HandedInTest(unittest.TestCase):
             self.assertEqual(places, [0, 1])
             places.append(7)
         self.assertEqual((row, test), before)
+
+
+class MovedTest(unittest.TestCase):
+    def test_each_word(self):
+        among = ("among", [4, 5])
+        self.assertEqual(moved((
+            "both", ("either", ("cell", 0, ("open",)), ALWAYS),
+            ("not", ("both", ("cells", 1, "<", 3), ("cell", 2, among))),
+        ), 2), (
+            "both", ("either", ("cell", 2, ("open",)), ALWAYS),
+            ("not", ("both", ("cells", 3, "<", 5), ("cell", 4, ("among", (4, 5))))),
+        ))
+        self.assertEqual(moved(("cell", 1, ("<=", "a")), 0), ("cell", 1, ("<=", "a")))
+        self.assertEqual(moved(ALWAYS, 7), ALWAYS)
+
+    def test_nothing_handed_in_is_kept(self):
+        values = [4, 5]
+        told = moved(("not", ("cell", 0, ("among", values))), 2)
+        values.append(6)
+        self.assertEqual(told, ("not", ("cell", 2, ("among", (4, 5)))))
 
 
 if __name__ == "__main__":
