@@ -69,5 +69,5 @@ def none_between(least, greatest, test):
     """Whether the least and the greatest tell that no cell between them meets a test."""
     word, worth = test
     if word == "among":
-        return all([none_between(least, greatest, ("=", value)) for value in worth])
+        return not any([least <= value <= greatest for value in worth])
     return all_between(least, greatest, (OPPOSITE[word], worth))
