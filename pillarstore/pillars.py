@@ -34,7 +34,7 @@ class Pillar:
     def stretch(self, s):
         """The cells of a stretch."""
         if not 0 <= s < len(self.pressed_rows):
-            raise NoRow(f"no stretch {s}")
+            raise NoRow("no such stretch")
         if s in self.plain_pieces:
             return list(self.plain_pieces[s])
         return cells_in(self.pressed_rows[s])
@@ -42,7 +42,7 @@ class Pillar:
     def cell(self, k):
         """The k-th cell."""
         if not 0 <= k < self.total:
-            raise NoRow(f"no cell {k}")
+            raise NoRow("no such cell")
         s, place = divmod(k, self.span)
         if s in self.plain_pieces:
             return self.plain_pieces[s][place]

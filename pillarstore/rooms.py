@@ -14,14 +14,14 @@ class Room:
     def hold(self, many):
         """So many rows more are held."""
         if self.held_rows + many > self.most_rows:
-            raise NoRoom(f"no room for {many} more")
+            raise NoRoom("no room for so many more")
         self.held_rows += many
         self.peak_rows = max(self.peak_rows, self.held_rows)
 
     def free(self, many):
         """So many rows are held no more."""
         if many > self.held_rows:
-            raise NoRoom(f"not so many are held: {many}")
+            raise NoRoom("not so many are held")
         self.held_rows -= many
 
     def most(self):
@@ -83,5 +83,5 @@ class Parts:
     def rows_in(self, number):
         """The list that a part's rows stand in."""
         if number not in self.part_rows:
-            raise NoPart(f"no part {number}")
+            raise NoPart("no such part")
         return self.part_rows[number]

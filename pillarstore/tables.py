@@ -42,7 +42,7 @@ class Table:
     def pour(self, first, last):
         """Makes one heap of those from first to last, without the rows that are gone; how many these are is told."""
         if not 0 <= first <= last < len(self.piles):
-            raise NoHeap(f"no heaps from {first} to {last}")
+            raise NoHeap("no such heaps")
         entries = []
         for pillars in self.piles[first:last + 1]:
             entries.extend(entries_of(pillars))
@@ -119,7 +119,7 @@ class Table:
     def require_moment(self, moment):
         """Refuses a moment that can not be asked of."""
         if not self.oldest_moment <= moment <= self.newest_moment:
-            raise NoMoment(f"no moment {moment}")
+            raise NoMoment("no such moment")
 
     def is_gone(self, number):
         """Whether a row is there at no moment that can be asked of."""

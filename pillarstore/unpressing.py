@@ -136,7 +136,7 @@ def count_in(row):
 def cell_in(row, k):
     """The k-th cell of a row."""
     if not 0 <= k < count_in(row):
-        raise NoRow(f"no cell {k}")
+        raise NoRow("no such cell")
     values, places = values_and_places(row)
     return values[places[k]]
 

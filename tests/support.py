@@ -5,6 +5,8 @@ import unittest
 from pillarstore.errors import BadBytes
 
 TOP = 10 ** 18 - 1
+# More figures than Python tells: a refusal of such a number must not try to tell it.
+HUGE = 10 ** 5000
 
 # Per sign: whether what is below, at and beyond a value meets it.
 MET = {

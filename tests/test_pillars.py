@@ -6,6 +6,7 @@ from pillarstore.celltests import note_of
 from pillarstore.errors import NoRow
 from pillarstore.pillars import Pillar
 from pillarstore.pressing import pressed
+from tests.support import HUGE
 
 COLUMNS = {
     "numbers": [(k * 7919) % 1000 - 500 for k in range(301)],
@@ -44,10 +45,10 @@ class PillarTest(unittest.TestCase):
 
     def test_no_row(self):
         for pillar, cells, stretches in self.each():
-            for s in (-1, -len(stretches) - 1, len(stretches), len(stretches) + 1, 1000):
+            for s in (-1, -len(stretches) - 1, len(stretches), len(stretches) + 1, 1000, HUGE):
                 with self.assertRaises(NoRow):
                     pillar.stretch(s)
-            for k in (-1, -len(cells) - 1, len(cells), len(cells) + 1, len(stretches) * 64 + 64):
+            for k in (-1, -len(cells) - 1, len(cells), len(cells) + 1, len(stretches) * 64 + 64, -HUGE):
                 with self.assertRaises(NoRow):
                     pillar.cell(k)
             self.assertEqual(pillar.many(), len(cells))

@@ -4,6 +4,7 @@ import unittest
 
 from pillarstore.errors import NoPart, NoRoom
 from pillarstore.rooms import Parts, Room
+from tests.support import HUGE
 
 
 def told_by(parts):
@@ -29,6 +30,8 @@ class RoomTest(unittest.TestCase):
         self.check(room, 6, 4, 4)
         self.refused(room, room.hold, 3)
         self.refused(room, room.hold, 1000)
+        self.refused(room, room.hold, HUGE)
+        self.refused(room, room.free, HUGE)
         room.hold(2)
         self.check(room, 6, 6, 6)
         self.refused(room, room.hold, 1)
@@ -132,7 +135,7 @@ class PartsTest(unittest.TestCase):
             parts.add(number, (number,))
         parts.drop(1)
         before = told_by(parts)
-        for number in (1, 3, 4, -1, -3, 1000):
+        for number in (1, 3, 4, -1, -3, 1000, HUGE):
             for deed, handed in (
                 (parts.add, ((5,),)), (parts.row, (0,)), (parts.row, (7,)), (parts.many, ()), (parts.drop, ()),
             ):

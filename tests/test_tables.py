@@ -7,7 +7,7 @@ from pillarstore.errors import BadRow, NoHeap, NoMoment
 from pillarstore.heaps import Heap, heap_bytes
 from pillarstore.tables import Table
 from tests.plaintable import KINDS, TESTS, PlainTable, some_deed, some_rows
-from tests.support import TOP
+from tests.support import HUGE, TOP
 
 ALWAYS = ("always",)
 NEVER = ("not", ALWAYS)
@@ -218,7 +218,7 @@ class PourTest(TableCase):
         empty, table = table_of(), table_of([5], [], [6], [7])
         for first, last in ((0, 0), (-1, 0), (0, -1), (1, 1)):
             self.assert_refused(empty, NoHeap, empty.pour, first, last)
-        for first, last in ((1, 0), (2, 1), (0, 3), (3, 3), (-1, 1), (-1, -1), (-2, -1), (0, -1), (2, -1), (100, 200)):
+        for first, last in ((1, 0), (2, 1), (0, 3), (3, 3), (-1, 1), (-1, -1), (-2, -1), (0, -1), (2, -1), (0, HUGE)):
             self.assert_refused(table, NoHeap, table.pour, first, last)
 
     def test_numbers_never_come_again(self):
@@ -245,7 +245,7 @@ class ForgetTest(TableCase):
     def test_no_moment(self):
         table = table_of([5], [6], [7])
         table.forget(2)
-        for moment in (-1, 0, 1, 4, 100):
+        for moment in (-1, 0, 1, 4, 100, HUGE):
             self.assert_refused(table, NoMoment, table.forget, moment)
         empty = table_of()
         for moment in (-1, 1):
@@ -256,7 +256,7 @@ class MomentTest(TableCase):
     def test_no_moment(self):
         table = table_of([5], [6], [7])
         table.forget(1)
-        for moment in (-1, 0, 4, 5):
+        for moment in (-1, 0, 4, 5, HUGE):
             self.assert_refused(table, NoMoment, table.rows_at, moment)
             self.assert_refused(table, NoMoment, table.numbers_at, moment)
         for moment in (1, 2, 3):

@@ -8,7 +8,7 @@ from pillarstore.celltests import meets
 from pillarstore.errors import BadBytes, NoRow
 from pillarstore.pressing import press_by, pressed
 from pillarstore.unpressing import cell_in, count_in, kept_in, unpressed
-from tests.support import STRETCHES, TOP, BytesCase
+from tests.support import HUGE, STRETCHES, TOP, BytesCase
 
 # Rows by each way, with the cells that they are of.
 PRESSED = [(row, cells) for cells in STRETCHES for row in [press_by(w, cells) for w in range(5)] if row is not None]
@@ -228,7 +228,7 @@ class CountAndCellTest(unittest.TestCase):
 
     def test_no_row(self):
         for row, cells in PRESSED:
-            for k in (-1, -len(cells), len(cells), len(cells) + 1, 1000, -1000):
+            for k in (-1, -len(cells), len(cells), len(cells) + 1, 1000, -1000, HUGE):
                 with self.assertRaises(NoRow):
                     cell_in(row, k)
 
