@@ -1,10 +1,10 @@
 """Heaps: entries (number, born, row) kept by pillars, as rows of bytes and back."""
 
-from pillarstore.byterows import number_bytes, take_byte
+from pillarstore.byterows import number_bytes, take_byte, take_number
 from pillarstore.cells import kind_of
 from pillarstore.errors import BadBytes
 from pillarstore.pillars import Pillar
-from pillarstore.unpressing import MOST_CELLS, take_count, unpressed
+from pillarstore.unpressing import MOST_CELLS, cells_in, take_count, unpressed
 
 # The places among a heap's pillars: the columns' stand behind these two.
 NUMBER_PLACE = 0
@@ -57,6 +57,23 @@ def bytes_of(kinds, long, pillars):
 def heap_bytes(kinds, long, entries):
     """The row of bytes of a heap of entries."""
     return bytes_of(kinds, long, pillars_of(len(kinds), long, entries))
+
+
+def pillars_in(row):
+    """The pillars of a row that heap_bytes told, refused where the sum is not of it; nothing else is asked again."""
+    body = body_of(row)
+    columns, at = take_number(body, 1)
+    long = body[at + columns]
+    many, at = take_number(body, at + columns + 1)
+    pillars = []
+    for place in range(FIRST_COLUMN + columns):
+        cells = []
+        while len(cells) < many:
+            size, first = take_number(body, at)
+            at = first + size
+            cells.extend(cells_in(body[first:at]))
+        pillars.append(Pillar(long, cells))
+    return pillars
 
 
 class Heap:

@@ -2,7 +2,7 @@
 
 from pillarstore.cells import fits
 from pillarstore.errors import BadRow, NoHeap, NoMoment
-from pillarstore.heaps import BORN_PLACE, FIRST_COLUMN, NUMBER_PLACE, bytes_of, entries_of, pillars_of
+from pillarstore.heaps import BORN_PLACE, FIRST_COLUMN, NUMBER_PLACE, bytes_of, cells_of, entries_of, pillars_of
 from pillarstore.rowtests import moved
 from pillarstore.sieves import Walk, found_in
 
@@ -24,9 +24,7 @@ class Table:
         for place, row in enumerate(rows):
             if not is_row_of(row, self.column_kinds):
                 raise BadRow(place)
-        self.newest_moment += 1
-        numbers = list(range(self.next_number, self.next_number + len(rows)))
-        self.next_number += len(rows)
+        numbers = self.begin_rows(len(rows))
         entries = [(number, self.newest_moment, row) for number, row in zip(numbers, rows)]
         self.piles.extend(self.piled(entries))
         return numbers
@@ -34,9 +32,7 @@ class Table:
     def take(self, test):
         """Marks the rows that meet a test with the next moment; their numbers are told."""
         numbers = self.numbers_found(self.newest_moment, test)
-        self.newest_moment += 1
-        for number in numbers:
-            self.marked[number] = self.newest_moment
+        self.mark_rows(numbers)
         return numbers
 
     def pour(self, first, last):
@@ -76,7 +72,7 @@ class Table:
 
     def heaps(self):
         """The heaps' rows of bytes."""
-        return [bytes_of(self.column_kinds, self.span, pillars) for pillars in self.piles]
+        return [self.heap_row(at) for at in range(self.heap_count())]
 
     def marks(self):
         """The pairs (number, moment) of the rows that are marked, rising."""
@@ -90,6 +86,43 @@ class Table:
     def numbers_at(self, moment):
         """The numbers of the rows that are there at a moment, rising."""
         return self.numbers_found(moment, ("always",))
+
+    def begin_rows(self, many):
+        """The next moment begins with so many new rows; their numbers are told."""
+        self.newest_moment += 1
+        first = self.next_number
+        self.next_number += many
+        return list(range(first, self.next_number))
+
+    def mark_rows(self, numbers):
+        """The next moment begins, and rows are marked with it."""
+        self.newest_moment += 1
+        for number in numbers:
+            self.marked[number] = self.newest_moment
+
+    def heap_count(self):
+        """How many heaps there are."""
+        return len(self.piles)
+
+    def heap_row(self, at):
+        """The row of bytes of the heap at a place."""
+        return bytes_of(self.column_kinds, self.span, self.piles[at])
+
+    def fill(self, piles):
+        """Heaps, each as its pillars, become this table's; marks of rows that are in none of them go."""
+        self.piles = list(piles)
+        there = {number: True for pillars in piles for number in cells_of(pillars[NUMBER_PLACE])}
+        self.marked = {number: moment for number, moment in self.marked.items() if number in there}
+
+    def own_copy(self):
+        """A table like this one; what is done to one changes nothing of the other."""
+        table = Table(self.column_kinds, self.span)
+        table.newest_moment = self.newest_moment
+        table.oldest_moment = self.oldest_moment
+        table.next_number = self.next_number
+        table.piles = list(self.piles)
+        table.marked = dict(self.marked)
+        return table
 
     def numbers_found(self, moment, test):
         """The numbers of the rows that are there at a moment and meet a test."""

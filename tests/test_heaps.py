@@ -4,7 +4,7 @@ import unittest
 
 from pillarstore.byterows import number_bytes
 from pillarstore.errors import BadBytes
-from pillarstore.heaps import Heap, heap_bytes, sum_of
+from pillarstore.heaps import Heap, entries_of, heap_bytes, pillars_in, sum_of
 from pillarstore.pillars import Pillar
 from pillarstore.pressing import press_by, pressed
 from tests.support import TOP, BytesCase
@@ -149,6 +149,27 @@ class HeapTest(unittest.TestCase):
             self.assertEqual(len(heap.pillars()), 3)
             for told in (heap.kinds(), heap.entries(), heap.pillars(), heap.pillars()[0].rows()):
                 told.clear()
+
+
+class PillarsInTest(BytesCase):
+    def test_as_a_heaps(self):
+        for kinds, long, entries in HEAPS.values():
+            row = heap_bytes(kinds, long, entries)
+            pillars, expected = pillars_in(row), Heap(row).pillars()
+            self.assertEqual(entries_of(pillars), entries)
+            self.assertEqual([pillar.rows() for pillar in pillars], [pillar.rows() for pillar in expected])
+            self.assertEqual([pillar.notes() for pillar in pillars], [pillar.notes() for pillar in expected])
+
+    def test_somewhat_beyond_the_bounds_is_no_error(self):
+        for kinds, long, many in ((["number"] * 9, 2, 5), (["text"], 66, 140), (["number"], 0, 3)):
+            cell = "x" if kinds == ["text"] else 5
+            entries = [(k, 1, (cell,) * len(kinds)) for k in range(many)]
+            self.assertEqual(entries_of(pillars_in(heap_bytes(kinds, long, entries))), entries)
+
+    def test_the_sum(self):
+        row = summed(heap_row())
+        for wrong in ([], row[:-1], row[:-1] + [row[-1] + 1], [72] + row):
+            self.assert_why("sum", pillars_in, wrong)
 
 
 class SumRefusedTest(BytesCase):

@@ -47,6 +47,32 @@ class TableCase(unittest.TestCase):
         return caught.exception
 
 
+class OwnCopyTest(TableCase):
+    def test_neither_changes_the_other(self):
+        chance = random.Random(9)
+        table, plain = Table(KINDS, 2), PlainTable(KINDS, 2)
+        for _turn in range(60):
+            before = told_by(table)
+            copied = table.own_copy()
+            self.assertEqual((told_by(copied), copied.put([(1, "a", 1)])), (before, [plain.next]))
+            copied.take(ALWAYS)
+            copied.forget(copied.now())
+            copied.pour(0, copied.heap_count() - 1)
+            self.assertEqual(told_by(table), before)
+            copied, (deed, handed) = table.own_copy(), some_deed(chance, plain)
+            getattr(plain, deed)(*handed)
+            getattr(table, deed)(*handed)
+            self.assertEqual(told_by(copied), before)
+
+
+class HeapRowTest(TableCase):
+    def test_as_heaps(self):
+        table = table_of([5], [6, 7], [8])
+        self.assertEqual(table.heap_count(), 3)
+        self.assertEqual([table.heap_row(at) for at in range(3)], table.heaps())
+        self.assertEqual(table_of().heap_count(), 0)
+
+
 class NewTest(TableCase):
     def test_a_table_without_rows(self):
         for kinds in (["number"], ("text", "number"), ["text"] * 8):
